@@ -1,0 +1,1 @@
+"""Farquotient: quotients of polynomials that agree furthest with a row of numbers."""
