@@ -1,11 +1,11 @@
-"""Two kinds of numbers, and how polynomials of either are reckoned.
+"""The kinds of numbers, and how polynomials of each are reckoned.
 
 A polynomial of a field is a tuple (or list) of its numbers, those of x to the power 0, 1, 2 and so on,
 the last one not nought. The kinds differ in their sums, products and shares alone, so these are handed
 in as a field, and all that is built on them is written once.
 """
 
-from farquotient.numbers import NOUGHT, minus, over, plus, times
+from farquotient.numbers import NOUGHT, UNIT, minus, over, plus, times
 
 
 class FractionField:
@@ -13,6 +13,7 @@ class FractionField:
 
     def __init__(self):
         self.nought = NOUGHT
+        self.unit = UNIT
 
     def added(self, one, other):
         return plus(one, other)
@@ -33,6 +34,7 @@ class PrimeField:
     def __init__(self, prime):
         self.prime = prime
         self.nought = 0
+        self.unit = 1
 
     def added(self, one, other):
         return (one + other) % self.prime
@@ -47,6 +49,30 @@ class PrimeField:
         return (one * inverse_by(self.prime, other)) % self.prime
 
 
+class WholeNumbers:
+    """The whole numbers, which have a share only where other goes into one.
+
+    Fractions grow, and to keep them in lowest terms takes long; so what has to be reckoned in many steps is
+    brought to one below, reckoned with the tops alone, and made fractions of at the end.
+    """
+
+    def __init__(self):
+        self.nought = 0
+        self.unit = 1
+
+    def added(self, one, other):
+        return one + other
+
+    def lessened(self, one, other):
+        return one - other
+
+    def multiplied(self, one, other):
+        return one * other
+
+    def divided(self, one, other):
+        return one // other
+
+
 def inverse_by(prime, one):
     """The number of a prime that makes 1 times one, which isn't nought."""
     # At each step far times one leaves high behind parting by the prime, and near times one leaves low.
@@ -57,6 +83,13 @@ def inverse_by(prime, one):
         high, low = low, high - often * low
         far, near = near, far - often * near
     return far % prime
+
+
+def brought_by(prime, numbers):
+    """The list of a list's fractions as numbers of a prime; None where the prime goes into a below."""
+    if any([below % prime == 0 for top, below in numbers]):
+        return None
+    return [(top * inverse_by(prime, below % prime)) % prime for top, below in numbers]
 
 
 def trimmed(nought, row):
@@ -113,3 +146,10 @@ def parted_in(field, one, other):
         for place, each in enumerate(other):
             rest[shift + place] = field.lessened(rest[shift + place], field.multiplied(weight, each))
     return (trimmed(field.nought, often), trimmed(field.nought, rest))
+
+
+def common_in(field, one, other):
+    """The greatest common factor of two polynomials of a field, its last number 1; nought of two noughts."""
+    while other:
+        one, other = other, parted_in(field, one, other)[1]
+    return tuple([field.divided(each, one[-1]) for each in one])

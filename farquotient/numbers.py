@@ -1,14 +1,44 @@
 """Numbers: fractions in lowest terms, each a tuple (top, below) of whole numbers with below 1 or more."""
 
 NOUGHT = (0, 1)
+UNIT = (1, 1)
+GREAT_BITS = 8000
+SEEN_BITS = 120
 
 
 def greatest_divisor(one, other):
     """The greatest common divisor of two whole numbers, nought of two noughts."""
     one, other = abs(one), abs(other)
+    if one < other:
+        one, other = other, one
+    while other.bit_length() > GREAT_BITS:
+        one, other = leapt(one, other)
     while other:
         one, other = other, one % other
     return one
+
+
+def leapt(one, other):
+    """Two whole numbers with the same divisors in common, some steps of parting further on, other being the lesser.
+
+    The steps are reckoned with the first bits alone, as long as these tell surely how often one goes in the
+    other, and then done at once; one by one they would take several times as long with great numbers.
+    """
+    shift = one.bit_length() - SEEN_BITS
+    high, low = one >> shift, other >> shift
+    # The numbers reached so far are a times one and b times other, and c times one and d times other.
+    a, b, c, d = 1, 0, 0, 1
+    sure = low > 0
+    while sure:
+        often = (high + a) // (low + c)
+        sure = often == (high + b) // (low + d)
+        if sure:
+            a, b, c, d = c, d, a - often * c, b - often * d
+            high, low = low, high - often * low
+            sure = low + c > 0 and low + d > 0
+    if b == 0:
+        return (other, one % other)
+    return (a * one + b * other, c * one + d * other)
 
 
 def number(top, below):
@@ -36,24 +66,66 @@ def is_number(thing):
 
 def plus(one, other):
     """The sum of two numbers."""
-    return number(one[0] * other[1] + other[0] * one[1], one[1] * other[1])
+    return summed(one[0], one[1], other[0], other[1])
 
 
 def minus(one, other):
     """One number less the other."""
-    return number(one[0] * other[1] - other[0] * one[1], one[1] * other[1])
+    return summed(one[0], one[1], -other[0], other[1])
+
+
+def summed(top, below, other_top, other_below):
+    """The sum of two numbers, each told by its top and its below."""
+    # Only what the belows have in common can be left to take out, so the whole sum needn't be looked at.
+    shared = greatest_divisor(below, other_below)
+    rest = below // shared
+    total = top * (other_below // shared) + other_top * rest
+    total, shared_left = number(total, shared)
+    return (total, rest * (other_below // shared) * shared_left)
 
 
 def times(one, other):
     """The product of two numbers."""
-    return number(one[0] * other[0], one[1] * other[1])
+    # Each is in lowest terms, so only one's top and the other's below have something to take out.
+    left, right = number(one[0], other[1]), number(other[0], one[1])
+    return (left[0] * right[0], left[1] * right[1])
 
 
 def over(one, other):
     """One number by the other, which isn't nought."""
-    return number(one[0] * other[1], one[1] * other[0])
+    left, right = number(one[0], other[0]), number(other[1], one[1])
+    return (left[0] * right[0], left[1] * right[1])
 
 
 def before(one, other):
     """Whether one number is less than the other."""
     return one[0] * other[1] < other[0] * one[1]
+
+
+def least_below(numbers):
+    """The least whole number from 1 that the belows of all numbers of a list go into."""
+    share = 1
+    for top, below in numbers:
+        share = share // greatest_divisor(share, below) * below
+    return share
+
+
+def tops_over(share, numbers):
+    """The tops of a list's numbers, all brought to the below share, into which their own ones go."""
+    return [top * (share // below) for top, below in numbers]
+
+
+def divisor_of(wholes):
+    """The greatest common divisor of a list of whole numbers, nought of noughts alone."""
+    divisor = 0
+    for each in wholes:
+        divisor = greatest_divisor(divisor, each)
+    return divisor
+
+
+def to_power(base, exponent):
+    """The whole number base to the power exponent, from 0."""
+    power = 1
+    for step in range(exponent):
+        power *= base
+    return power

@@ -1,7 +1,30 @@
 """Polynomials: tuples of numbers, those of x to the power 0, 1, 2 and so on, the last one not nought."""
 
-from farquotient.fields import FractionField, less_in, parted_in, product_in, sum_in, trimmed, value_in
-from farquotient.numbers import NOUGHT, greatest_divisor, is_number, number, times
+from farquotient.fields import (
+    FractionField,
+    PrimeField,
+    brought_by,
+    common_in,
+    less_in,
+    parted_in,
+    product_in,
+    sum_in,
+    trimmed,
+    value_in,
+)
+from farquotient.numbers import (
+    NOUGHT,
+    UNIT,
+    divisor_of,
+    is_number,
+    least_below,
+    number,
+    times,
+    to_power,
+    tops_over,
+)
+
+GREAT_PRIME = 2305843009213693951
 
 
 def is_poly(thing):
@@ -55,22 +78,33 @@ def slopes_of(one):
 
 def common(one, other):
     """The greatest common factor of two polynomials, its last number 1; nought of two noughts."""
-    high, low = in_wholes(one), in_wholes(other)
+    if surely_apart(one, other):
+        return (UNIT,)
+    high, low = plain_wholes(one), plain_wholes(other)
     if len(high) < len(low):
         high, low = low, high
     factor = last_rest(high, low)
     return poly([number(each, factor[-1]) for each in factor])
 
 
-def in_wholes(one):
+def surely_apart(one, other):
+    """Whether the numbers of a great prime show two polynomials to have no common factor.
+
+    Most that have none are shown so, but not all, and none that have one.
+    """
+    left, right = brought_by(GREAT_PRIME, one), brought_by(GREAT_PRIME, other)
+    if not left or not right:
+        return False
+    # A common factor stays of its degree, and common, as long as the prime takes away no last number.
+    if left[-1] == 0 or right[-1] == 0:
+        return False
+    return len(common_in(PrimeField(GREAT_PRIME), left, right)) == 1
+
+
+def plain_wholes(one):
     """The whole numbers, without a common divisor, that stand to one another as a polynomial's numbers do."""
-    multiple = 1
-    for top, below in one:
-        multiple = multiple // greatest_divisor(multiple, below) * below
-    wholes = [top * (multiple // below) for top, below in one]
-    divisor = 0
-    for each in wholes:
-        divisor = greatest_divisor(divisor, each)
+    wholes = tops_over(least_below(one), one)
+    divisor = divisor_of(wholes)
     return tuple([each // divisor for each in wholes])
 
 
@@ -79,33 +113,30 @@ def last_rest(high, low):
 
     High is of no lesser degree than low.
     """
-    # Fractions would grow beyond measure on the way, and to keep them in lowest terms would take long.
     # Each rest's numbers are known ahead to have the divisor below in common (these are the subresultants).
     lead, scale = 1, 1
     while low:
         drop = len(high) - len(low)
         divisor = lead * to_power(scale, drop)
-        high, low = low, tuple([each // divisor for each in whole_rest(high, low)])
+        rest = whole_parted(high, low)[1]
+        high, low = low, tuple([each // divisor for each in rest])
         lead = high[-1]
         if drop > 0:
             scale = to_power(lead, drop) // to_power(scale, drop - 1)
     return high
 
 
-def whole_rest(high, low):
-    """The rest of high parted by low, high taken low's last number times for each step, so that it is whole."""
-    rest = list(high)
+def whole_parted(high, low):
+    """The pair (how often, rest) of high parted by low, both of whole numbers.
+
+    High is taken low's last number times for each step, so that all stays whole; there are as many steps as
+    high's degree less low's and 1, or none.
+    """
+    often, rest = [], list(high)
     for shift in reversed(range(len(high) - len(low) + 1)):
         weight = rest.pop()
+        often = [weight] + [each * low[-1] for each in often]
         rest = [each * low[-1] for each in rest]
         for place in range(len(low) - 1):
             rest[shift + place] -= weight * low[place]
-    return trimmed(0, rest)
-
-
-def to_power(base, exponent):
-    """The whole number base to the power exponent, from 0."""
-    power = 1
-    for step in range(exponent):
-        power *= base
-    return power
+    return (tuple(often), trimmed(0, rest))

@@ -2,7 +2,18 @@
 
 import unittest
 
-from farquotient.fields import PrimeField, less_in, parted_in, product_in, sum_in, value_in
+from farquotient.fields import (
+    FractionField,
+    PrimeField,
+    WholeNumbers,
+    brought_by,
+    common_in,
+    less_in,
+    parted_in,
+    product_in,
+    sum_in,
+    value_in,
+)
 
 
 def cut(row):
@@ -30,6 +41,40 @@ class NumbersOfAPrime(unittest.TestCase):
                     told = field.divided(one, other)
                     self.assertIn(told, range(prime))
                     self.assertEqual(told * other % prime, one)
+
+
+    def test_noughts_and_units(self):
+        for field in (PrimeField(2), PrimeField(997), WholeNumbers(), FractionField()):
+            for one in (field.nought, field.unit):
+                self.assertEqual(field.added(one, field.nought), one)
+                self.assertEqual(field.lessened(one, one), field.nought)
+                self.assertEqual(field.multiplied(one, field.unit), one)
+                self.assertEqual(field.divided(one, field.unit), one)
+            self.assertNotEqual(field.nought, field.unit)
+
+    def test_brought(self):
+        self.assertEqual(brought_by(7, [(3, 1), (-1, 1), (1, 2), (0, 1), (7, 3), (22, 10**40 + 1)])[:5], [3, 6, 4, 0, 0])
+        self.assertEqual(brought_by(7, []), [])
+        self.assertIsNone(brought_by(7, [(3, 1), (1, 14), (1, 2)]))
+        for below in range(1, 30):
+            for top in range(-9, 9):
+                told = brought_by(5, [(1, 1), (top, below)])
+                if below % 5 == 0:
+                    self.assertIsNone(told)
+                else:
+                    self.assertEqual((told[1] * below - top) % 5, 0)
+                    self.assertIn(told[1], range(5))
+
+
+class WholeOnes(unittest.TestCase):
+    def test_sums_products_and_shares(self):
+        field = WholeNumbers()
+        for one in range(-6, 7):
+            for other in (-3, -1, 1, 2):
+                self.assertEqual(field.added(one, other), one + other)
+                self.assertEqual(field.lessened(one, other), one - other)
+                self.assertEqual(field.multiplied(one, other), one * other)
+                self.assertEqual(field.divided(one * other, other), one)
 
 
 class PolynomialsOfAPrime(unittest.TestCase):
@@ -61,6 +106,21 @@ class PolynomialsOfAPrime(unittest.TestCase):
                     often, rest = parted_in(self.field, one, other)
                     self.assertEqual(sum_in(self.field, product_in(self.field, often, other), rest), one)
                     self.assertLess(len(rest), len(other))
+
+    def test_common_factors(self):
+        for one in self.all:
+            for other in self.all:
+                told = common_in(self.field, one, other)
+                if not one and not other:
+                    self.assertEqual(told, ())
+                    continue
+                self.assertEqual(told[-1], 1)
+                for each in (one, other):
+                    self.assertEqual(parted_in(self.field, each, told)[1], ())
+                for factor in self.all:
+                    goes = [factor and not parted_in(self.field, each, factor)[1] for each in (one, other)]
+                    if all(goes):
+                        self.assertLessEqual(len(factor), len(told))
 
 
 if __name__ == "__main__":

@@ -102,6 +102,14 @@ class Form(unittest.TestCase):
                 if isinstance(node, ast.Name):
                     self.assertIn(node.id, bound | NAMES, name)
 
+    def test_no_local_is_called_like_an_import_or_a_class(self):
+        for name, tree in self.trees.items():
+            drawn = {alias.name for node in tree.body if isinstance(node, ast.ImportFrom) for alias in node.names}
+            drawn |= {node.name for node in tree.body if isinstance(node, ast.ClassDef)}
+            for node in ast.walk(tree):
+                if isinstance(node, ast.FunctionDef):
+                    self.assertEqual(bound_names(ast.Module(node.args.args + node.body, [])) & drawn, set(), name)
+
     def test_attributes_are_the_programs_own_or_listed(self):
         own = {node.name for name, node in self.nodes(ast.FunctionDef)}
         given = {node.attr for name, node in self.nodes(ast.Attribute) if isinstance(node.ctx, ast.Store)}

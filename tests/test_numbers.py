@@ -1,3 +1,4 @@
+import random
 import unittest
 from fractions import Fraction
 
@@ -55,6 +56,35 @@ class Making(unittest.TestCase):
                 told = number(top, below)
                 self.assertTrue(is_plain_number(told), told)
                 self.assertEqual(fraction(told), Fraction(top, below))
+
+    def test_of_thousands_of_figures(self):
+        chance = random.Random("great")
+        for figures in (2400, 2410, 2420, 3000, 5000):
+            for times_more in (1, 10**5, 10**500, 10**2500):
+                shared = chance.randrange(1, 10 ** chance.randint(1, 2000))
+                top = chance.randrange(-(10**figures), 10**figures) * shared
+                below = chance.randrange(1, 10**figures) * shared * times_more
+                for one, other in ((top, below), (below, top), (top, top + 1), (below * below + 1, below)):
+                    told = number(one, other)
+                    awaited = Fraction(one, other)
+                    self.assertTrue(told == (awaited.numerator, awaited.denominator))
+
+    def test_of_steps_that_go_wrong_by_the_first_bits(self):
+        # Neighbours in this row go in one another once at each step, and no other numbers take as many steps.
+        one, other = 1, 1
+        while one < 10**3000:
+            one, other = one + other, one
+        for more in (-1, 0, 1, 2**4000):
+            for factor in (1, 2**70 - 1, 3**2000):
+                told = number((one + more) * factor, other * factor)
+                awaited = Fraction(one + more, other)
+                self.assertTrue(told == (awaited.numerator, awaited.denominator))
+        for high in (8000, 8001, 8119, 8120, 8121, 8200):
+            for low in (0, 1, 7900, 7999, 8000, 8001, 8119):
+                for top in (2**high, 2**high - 1, 2**high + 1):
+                    for below in (2**low, 2**low + 1, 3 * 2**low):
+                        awaited = Fraction(top, below)
+                        self.assertTrue(number(top, below) == (awaited.numerator, awaited.denominator))
 
 
 class Asking(unittest.TestCase):

@@ -312,6 +312,23 @@ class Common(PolyCase):
         known = polynomial(*values[3:7], 1)
         self.check_common(product_of(polynomial(*values[7:16]), known), product_of(polynomial(*values[16:25]), known), known)
 
+    def test_numbers_that_a_great_prime_goes_into(self):
+        prime = 2**61 - 1
+        for one, other in (
+            (polynomial(-1, 1), polynomial(-1 - prime, 1)),
+            (polynomial(-1, 1), polynomial(-1, prime + 1)),
+            (polynomial(1, prime), polynomial(1, 2, prime)),
+            (polynomial(prime, 1), polynomial(0, 1)),
+            (polynomial(prime), polynomial(0, prime)),
+            (polynomial(1, Fraction(1, prime)), polynomial(2, 1)),
+            (polynomial(2, 1), polynomial(Fraction(-3, prime), 1)),
+            (polynomial(1, prime), polynomial(1, 2 * prime)),
+        ):
+            self.check_common(one, other, UNIT)
+            for known in (product_of_roots(HALF), polynomial(Fraction(1, prime), 1), polynomial(0, 0, 1)):
+                self.check_common(product_of(one, known), product_of(other, known), known)
+                self.check_common(product_of(one, known), known, known)
+
     def test_what_is_told_may_be_handed_in_again(self):
         known = common(product_of_roots(1, 2, HALF), product_of_roots(2, HALF, 9))
         self.check_common(known, product_of_roots(HALF, 5), product_of_roots(HALF))
