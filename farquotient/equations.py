@@ -4,7 +4,7 @@ Below times the row has noughts at the places m + 1 to m + n where its numbers a
 places up to m are the top's.
 """
 
-from farquotient.fields import WholeNumbers, trimmed
+from farquotient.fields import FractionField, WholeNumbers, trimmed
 from farquotient.numbers import NOUGHT, is_number, least_below, tops_over
 from farquotient.quotients import agrees, heights, is_quotient
 from farquotient.rows import check_places, number_at, settled, weighed
@@ -21,8 +21,10 @@ def furthest(row, m, n):
 
 
 def least_pair(field, row, m, n):
-    """The pair (top, below) that answers the equations with a below of the least degree, so without a common
-    factor but powers of x."""
+    """The pair (top, below) that answers the equations with a below of the least degree.
+
+    So top and below have no factor in common but powers of x.
+    """
     equations = []
     for place in range(m + 1, m + n + 1):
         equations.append([number_at(field, row, place - step) for step in range(n + 1)])
@@ -104,9 +106,9 @@ def never_paper(row, m, n, many):
     place = agrees(longer, one)
     if place >= many:
         return None
-    # Below times the row is nought at the n places ahead of this one, and isn't there: so its own numbers do.
+    # Below times the row is nought at the n places ahead of this one, but not here, so its numbers will do.
     below = one[1]
-    return tuple([below[place - at] if 0 <= place - at < len(below) else NOUGHT for at in range(m + 1, many)])
+    return tuple([number_at(FractionField(), below, place - at) for at in range(m + 1, many)])
 
 
 def shows_never(row, m, n, many, paper):
