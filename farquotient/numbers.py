@@ -2,8 +2,8 @@
 
 NOUGHT = (0, 1)
 UNIT = (1, 1)
-GREAT_BITS = 8000
-SEEN_BITS = 120
+GREAT_BITS = 2000
+SEEN_BITS = 160
 
 
 def greatest_divisor(one, other):
@@ -19,26 +19,26 @@ def greatest_divisor(one, other):
 
 
 def leapt(one, other):
-    """Two whole numbers with the same divisors in common, some steps of parting further on, other being the lesser.
+    """Two whole numbers with the same divisors in common, many steps of parting further on, other being the lesser.
 
-    The steps are reckoned with the first bits alone, as long as these tell surely how often one goes in the
-    other, and then done at once; one by one they would take several times as long with great numbers.
+    The steps are those of the first bits alone, done at once with the whole numbers; one by one they would take
+    several times as long. Some may be others than the whole numbers' own, but none adds or takes away a divisor.
     """
     shift = one.bit_length() - SEEN_BITS
-    high, low = one >> shift, other >> shift
-    # The numbers reached so far are a times one and b times other, and c times one and d times other.
-    a, b, c, d = 1, 0, 0, 1
-    sure = low > 0
-    while sure:
-        often = (high + a) // (low + c)
-        sure = often == (high + b) // (low + d)
-        if sure:
-            a, b, c, d = c, d, a - often * c, b - often * d
-            high, low = low, high - often * low
-            sure = low + c > 0 and low + d > 0
-    if b == 0:
+    first, second = one >> shift, other >> shift
+    half = 1 << (SEEN_BITS // 2)
+    if second < half:
         return (other, one % other)
-    return (a * one + b * other, c * one + d * other)
+    high, low = first, second
+    # High is a times first and some times second, and low is c times first and some times second.
+    a, c = 1, 0
+    while low >= half:
+        often, rest = divmod(high, low)
+        high, low = low, rest
+        a, c = c, a - often * c
+    b, d = (high - a * first) // second, (low - c * first) // second
+    far, near = abs(a * one + b * other), abs(c * one + d * other)
+    return (max(far, near), min(far, near))
 
 
 def number(top, below):

@@ -116,6 +116,15 @@ class Form(unittest.TestCase):
         for name, node in self.nodes(ast.Attribute):
             self.assertIn(node.attr, own | given | METHODS, (name, node.lineno))
 
+    def test_no_name_is_a_method_and_a_value(self):
+        methods = {
+            node.name for name, each in self.nodes(ast.ClassDef) for node in each.body if isinstance(node, ast.FunctionDef)
+        }
+        given = {node.attr for name, node in self.nodes(ast.Attribute) if isinstance(node.ctx, ast.Store)}
+        self.assertEqual(methods & given, set())
+        own = {name for kind in (str, int, list, tuple, dict, set, bytes) for name in dir(kind)}
+        self.assertEqual((methods | given) & own, {"__init__"})
+
     def test_ranges_and_kin_are_not_kept(self):
         for name, node in self.nodes(ast.Assign):
             called = node.value.func if isinstance(node.value, ast.Call) else None
