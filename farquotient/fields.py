@@ -2,10 +2,11 @@
 
 A polynomial of a field is a tuple (or list) of its numbers, those of x to the power 0, 1, 2 and so on,
 the last one not nought. The kinds differ in their sums, products and shares alone, so these are handed
-in as a field, and all that is built on them is written once.
+in as a field, and all that is built on them is written once. Simplest tells numbers, not all of them nought, that
+stand to one another as those of a row do, and are smaller where the kind knows how to make them so.
 """
 
-from farquotient.numbers import NOUGHT, UNIT, minus, over, plus, times
+from farquotient.numbers import NOUGHT, UNIT, divisor_of, minus, over, plus, times
 
 
 class FractionField:
@@ -27,6 +28,9 @@ class FractionField:
     def divided(self, one, other):
         return over(one, other)
 
+    def simplest(self, numbers):
+        return tuple(numbers)
+
 
 class PrimeField:
     """The whole numbers from 0 to prime - 1, reckoned by what is left behind parting by the prime."""
@@ -47,6 +51,9 @@ class PrimeField:
 
     def divided(self, one, other):
         return (one * inverse_by(self.prime, other)) % self.prime
+
+    def simplest(self, numbers):
+        return tuple(numbers)
 
 
 class WholeNumbers:
@@ -71,6 +78,10 @@ class WholeNumbers:
 
     def divided(self, one, other):
         return one // other
+
+    def simplest(self, numbers):
+        divisor = divisor_of(numbers)
+        return tuple([each // divisor for each in numbers])
 
 
 def inverse_by(prime, one):

@@ -76,6 +76,12 @@ class WholeOnes(unittest.TestCase):
                 self.assertEqual(field.multiplied(one, other), one * other)
                 self.assertEqual(field.divided(one * other, other), one)
 
+    def test_simplest(self):
+        self.assertEqual(WholeNumbers().simplest([6, 0, -4]), (3, 0, -2))
+        self.assertEqual(WholeNumbers().simplest((-5,)), (-1,))
+        self.assertEqual(PrimeField(7).simplest([6, 0, 4]), (6, 0, 4))
+        self.assertEqual(FractionField().simplest([(6, 1), (4, 1)]), ((6, 1), (4, 1)))
+
 
 class PolynomialsOfAPrime(unittest.TestCase):
     def setUp(self):
