@@ -1,8 +1,8 @@
 """Rules: pairs (weights, begin), by which a row's number is a sum of weighed numbers ahead of it, from begin on."""
 
 from farquotient.equations import furthest
-from farquotient.fields import FractionField, WholeNumbers
-from farquotient.numbers import NOUGHT, UNIT, least_below, minus, tops_over
+from farquotient.fields import WholeNumbers
+from farquotient.numbers import NOUGHT, UNIT, least_below, minus, number, tops_over
 from farquotient.partings import slope
 from farquotient.quotients import agrees, row_of
 from farquotient.rows import weighed
@@ -35,8 +35,10 @@ def gone_on(row, rule, many):
     weights, begin = rule
     # Top by below is a row that is as told at the places of top, and obeys the rule from there on.
     below = (UNIT,) + turned(weights)
-    field = FractionField()
-    top = [weighed(field, below, row, place) for place in range(len(row))]
+    share, part = least_below(below), least_below(row)
+    parts, wholes = tops_over(share, below), tops_over(part, row)
+    field = WholeNumbers()
+    top = [number(weighed(field, parts, wholes, place), share * part) for place in range(len(row))]
     return row_of((top, below), many)
 
 

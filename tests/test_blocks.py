@@ -348,6 +348,14 @@ class HandedIn(unittest.TestCase):
         for m, n in ((0, 23), (23, 0), (12, 11), (3, 9)):
             self.assertEqual(told[m][n], furthest(numbers, m, n))
 
+    def test_24_places_with_tops_of_forty_figures(self):
+        values = [(value or 1) * 10**20 for value in some_fractions("tops", 24, 20)]
+        numbers = [pair(Fraction(value.numerator, 1 + value.denominator % 9)) for value in values]
+        told = blocks(numbers)
+        self.assertEqual([block[:3] for block in told], [block_of(numbers, *block[:2]) for block in told])
+        self.assertEqual(sum(len(square(numbers, *block[:3])) for block in told), 300)
+        self.assertIs(shows_blocks(numbers, told), True)
+
 
 if __name__ == "__main__":
     unittest.main()
